@@ -1,0 +1,1 @@
+"""Stepnames: sums cut to named steps."""
