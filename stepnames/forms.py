@@ -40,6 +40,13 @@ def parts_of(part):
     return ()
 
 
+def filled_with(part, filling):
+    """What has the form of a sum, with this filling in the places of its own parts (or boxes)."""
+    if len(filling) == 0:
+        return part
+    return (part[0], *filling)
+
+
 def is_effect(part):
     """Whether what has the form of a sum is an effect itself."""
     return part[0] == "say" or part[0] == "ask"

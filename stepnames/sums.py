@@ -21,6 +21,11 @@ def has_effect(part):
     return any([is_effect(inner) for inner in sums_within(part)])
 
 
+def refuse_bad_sum(part):
+    """Refuses tuples that are no sum."""
+    sums_within(part)
+
+
 def sums_within(part):
     """A sum and all the sums within it, in no told order; BadSum for what is none."""
     found = []

@@ -73,3 +73,59 @@ def chain(many, leaf=NUM):
 def counting_steps(many):
     """So many steps, each in a box of its own as long as there are boxes."""
     return [(at % 200, "num", at % 1000) for at in range(many)]
+
+
+def parts(part):
+    """The parts of a sum, in their order."""
+    return [inner for inner in part[1:] if isinstance(inner, tuple)]
+
+
+def within(part):
+    """A sum and those within it, each behind its parts."""
+    return [one for inner in parts(part) for one in within(inner)] + [part]
+
+
+def effective(part):
+    """Whether a sum has an effect."""
+    return any(one[0] in ("say", "ask") for one in within(part))
+
+
+def plain_steps(part):
+    """A step for each sum within a sum, of so many as one likes, boxes 0, 1, 2 and on."""
+    steps = []
+
+    def put(here):
+        boxes = [put(inner) for inner in parts(here)]
+        steps.append((len(steps), here[0], *boxes) if boxes else (len(steps), *here))
+        return len(steps) - 1
+
+    put(part)
+    return steps
+
+
+def small_sums(most, leaves=(NUM, ASK), words=("less",)):
+    """All sums of one to so many sums, of these leaves, these words with two parts, and say."""
+    of_size = {1: list(leaves)}
+    for size in range(2, most + 1):
+        of_size[size] = [("say", inner) for inner in of_size[size - 1]]
+        for first in range(1, size - 1):
+            of_size[size] += [(word, one, other) for word in words
+                              for one in of_size[first] for other in of_size[size - 1 - first]]
+    return [part for size in of_size for part in of_size[size]]
+
+
+# With effects in both parts, in one of them, and in none; the steps of all can be run with names and given below.
+SUMS = [
+    NUM, ASK, ("name", "a"), ("num", 0), ("num", 999), ("say", NUM), ("say", ASK),
+    ("add", ("say", ("name", "a")), ASK),
+    ("less", ("say", ("num", 5)), ("say", ("num", 6))),
+    ("less", ("say", ASK), ("say", ("times", ASK, ("name", "b")))),
+    ("times", ("add", NUM, ("name", "f")), ("less", ("name", "c"), ("num", 999))),
+    ("less", ("num", 3), ("add", ("name", "a"), ("times", ("name", "a"), ("num", 3)))),
+    ("add", ("num", 7), ("less", ASK, ("times", ("say", ("name", "d")), ("name", "e")))),
+    ("less", ("add", ("say", ASK), ASK), ("times", ("say", ("less", ASK, ASK)), ("say", ASK))),
+    ("say", ("less", ("say", ("add", ASK, ("num", 999))), ("say", ("say", ("times", ASK, ("num", 30)))))),
+    chain(15), chain(15, ASK), tree(60), tree(59, ASK), ("add", chain(14, ASK), tree(45, ("name", "f"))),
+]
+NAMES = {"a": 10, "b": 11, "c": 12, "d": 130, "e": 400, "f": 999}
+GIVEN = list(range(3, 183, 3))

@@ -3,7 +3,11 @@
 import unittest
 
 from samples import BAD_STEPS, BAD_SUMS, tree
-from stepnames.errors import BadSteps, BadSum, NoMore, NoName
+from stepnames.back import put_back
+from stepnames.cutting import cut, once, tight
+from stepnames.errors import BadSteps, BadSum, BadText, NoMore, NoName, NoSum
+from stepnames.least import least
+from stepnames.notes import read_sum, written
 from stepnames.steps import boxes, run
 from stepnames.sums import has_effect, worth
 
@@ -119,6 +123,86 @@ class TestHandedIn(unittest.TestCase):
         for _ in range(3):
             self.assertEqual(len(worth(tree(60), {}, [])), 3)
             self.assertEqual(len(run([(0, "num", 1)] * 200, {}, [])), 3)
+
+
+# What tells the steps of a sum.
+TELLS = [cut, tight, once, lambda part: least(part)[1]]
+
+
+class TestCutAndBack(unittest.TestCase):
+    def test_a_told_list_may_be_changed(self):
+        for tell in TELLS:
+            first = tell(PART)
+            kept = list(first)
+            second = tell(PART)
+            self.assertIsNot(first, second)
+            first[0] = (7, "ask")
+            first.append((0, "num", 1))
+            del first[1]
+            self.assertEqual(second, kept)
+            self.assertEqual(tell(PART), kept)
+            first.clear()
+            self.assertEqual(tell(PART), kept)
+            self.assertEqual(put_back(kept), PART)
+
+    def test_steps_handed_in_are_not_changed(self):
+        for tell in TELLS:
+            steps = tell(PART)
+            kept = list(steps)
+            for _ in range(2):
+                put_back(steps)
+                self.assertEqual(steps, kept)
+
+    def test_steps_handed_in_may_be_changed_later(self):
+        steps = cut(PART)
+        part = put_back(steps)
+        steps[0] = (0, "num", 5)
+        self.assertEqual(part, PART)
+        changed = put_back(steps)
+        self.assertEqual((changed[1][1][1], part[1][1][1]), (("num", 5), ("ask",)))
+        del steps[-1]
+        with self.assertRaises(NoSum):
+            put_back(steps)
+        del steps[0]
+        with self.assertRaises(BadSteps) as caught:
+            put_back(steps)
+        self.assertEqual(caught.exception.number, 1)
+        self.assertEqual(part, PART)
+
+    def test_refusals_change_nothing(self):
+        for bad in BAD_STEPS:
+            steps = [(0, "ask"), (1, "ask"), bad]
+            with self.assertRaises(BadSteps):
+                put_back(steps)
+            self.assertEqual(steps, [(0, "ask"), (1, "ask"), bad])
+        steps = [(0, "ask"), (1, "ask"), (2, "add", 1, 0)]
+        with self.assertRaises(NoSum):
+            put_back(steps)
+        self.assertEqual(steps, [(0, "ask"), (1, "ask"), (2, "add", 1, 0)])
+
+    def test_a_call_knows_nothing_of_the_one_before(self):
+        text = written(PART)
+        told = [tell(PART) for tell in TELLS]
+        for _ in range(3):
+            for bad in (("say", ("num", 1000)), tree(61)):
+                for tell in TELLS + [written]:
+                    with self.assertRaises(BadSum):
+                        tell(bad)
+            with self.assertRaises(BadText):
+                read_sum(text + " a")
+            self.assertEqual(once(("add", ("name", "a"), ("name", "a"))), [(0, "name", "a"), (1, "add", 0, 0)])
+            self.assertEqual([tell(PART) for tell in TELLS], told)
+            self.assertEqual((written(PART), read_sum(text)), (text, PART))
+
+    def test_true_and_false_are_no_numbers(self):
+        for wrong in (True, False):
+            for tell in TELLS + [written]:
+                with self.assertRaises(BadSum):
+                    tell(("say", ("num", wrong)))
+            for step in ((wrong, "num", 1), (2, "num", wrong), (2, "say", wrong), (2, "add", 0, wrong)):
+                with self.assertRaises(BadSteps) as caught:
+                    put_back([(0, "num", 1), (1, "num", 1), step])
+                self.assertEqual(caught.exception.number, 2)
 
 
 if __name__ == "__main__":
